@@ -37,6 +37,21 @@ def multiplied(one, other):
     return [(added_powers(powers, more), count * many) for powers, count in one for more, many in other]
 
 
+def multiplied_within(one, other, most):
+    """The products of each of one with each of other, gathered, or None where they are more than most.
+
+    All counts are above 0, so what has come never goes again: it is known early that there are too many.
+    """
+    counts = {}
+    for powers, count in one:
+        for more, many in other:
+            key = added_powers(powers, more)
+            counts[key] = counts.get(key, 0) + count * many
+        if len(counts) > most:
+            return None
+    return list(counts.items())
+
+
 def taken_off(left, products, powers, count):
     """Takes the products, each times one more product, off from a dict of counts by powers."""
     for more, many in products:

@@ -132,15 +132,20 @@ def turned_tie(table, place, i, j):
     return tie
 
 
-def turned(table, place):
-    """The table turned at a bud."""
-    check_table(table)
-    check_bud(table, place)
+def turned_table(table, place):
+    """The table, which is even, turned at one of its buds."""
     many = bud_count(table)
     rows = tuple([tuple([turned_tie(table, place, i, j) for j in range(many)]) for i in range(len(table))])
     if any([abs(tie) > MOST_TIE for row in rows for tie in row]):
         raise Great()
     return rows
+
+
+def turned(table, place):
+    """The table turned at a bud."""
+    check_table(table)
+    check_bud(table, place)
+    return turned_table(table, place)
 
 
 def reordered(table, order):
@@ -164,11 +169,16 @@ def beside(one, other):
     return tuple(ones[:left] + others[:right] + ones[left:] + others[right:])
 
 
+def unit_rows(many):
+    """So many rows, each with 1 at its own place and 0 else."""
+    return tuple([tuple([1 if i == j else 0 for j in range(many)]) for i in range(many)])
+
+
 def principal(table):
     """The table of the same buds' ties with a root for each bud instead of all roots."""
     check_table(table)
     many = bud_count(table)
-    return table[:many] + tuple([tuple([1 if i == j else 0 for j in range(many)]) for i in range(many)])
+    return table[:many] + unit_rows(many)
 
 
 def opposite(table):

@@ -3,7 +3,7 @@
 import inspect
 import unittest
 
-from budwright import sums, tables
+from budwright import kinds, maps, sums, tables, walks, webs
 
 SUMS = {"letter": "(width, number, *, by=1)", "constant": "(width, many)", "read_sum": "(text, *, width)"}
 SUM_METHODS = {
@@ -18,6 +18,24 @@ TABLES = {
     "beside": "(one, other)", "principal": "(table)", "opposite": "(table)", "table_text": "(table)",
     "read_table": "(text)",
 }
+WEB_METHODS = {
+    "__init__": "(self, table)", "exchange": "(self, place)", "walk": "(self, places)", "table": "(self)",
+    "weights": "(self)", "places": "(self)", "bud": "(self, place)", "buds": "(self)", "hues": "(self)",
+    "leans": "(self)", "done": "(self)", "hold": "(self, place)", "release": "(self, place)", "held": "(self)",
+    "reorder": "(self, order)", "alike": "(self, other)", "twin": "(self)", "__len__": "(self)",
+    "__eq__": "(self, other)", "__str__": "(self)", "__repr__": "(self)",
+}
+WALKS = {
+    "reduced": "(walk)", "inner": "(table, walk)", "parted": "(table, lean, inner)", "walked": "(table, walk, parts)",
+    "leaned": "(table, walk, numbers, *, greatest=False)", "frieze": "(table, rounds)", "belt": "(table, *, most=20)",
+    "ring_length": "(table, one, other)",
+}
+KINDS = {"kind": "(table)", "endless_holds": "(table, walk, one, other)"}
+MAPS = {"map_holds": "(table, rows)"}
+MAP_METHODS = {
+    "__init__": "(self, table)", "rows": "(self)", "buds": "(self)", "number_of": "(self, leans)",
+    "way": "(self, one, other)", "walk_to": "(self, number)", "__len__": "(self)", "__repr__": "(self)",
+}
 
 
 class InterfaceTest(unittest.TestCase):
@@ -28,22 +46,30 @@ class InterfaceTest(unittest.TestCase):
                 self.assertEqual(str(inspect.signature(function)), signature)
                 self.assertEqual(function.__module__, module.__name__)
 
-    def test_functions_of_sums(self):
+    def check_methods(self, module, name, wanted):
+        owner = getattr(module, name)
+        self.assertEqual(owner.__module__, module.__name__)
+        for method, signature in wanted.items():
+            with self.subTest(method):
+                self.assertIn(method, vars(owner))
+                self.assertEqual(str(inspect.signature(vars(owner)[method])), signature)
+
+    def test_functions(self):
         self.check_functions(sums, SUMS)
-
-    def test_functions_of_tables(self):
         self.check_functions(tables, TABLES)
+        self.check_functions(walks, WALKS)
+        self.check_functions(kinds, KINDS)
+        self.check_functions(maps, MAPS)
 
-    def test_methods_of_sum_stand_in_the_class_itself(self):
-        self.assertEqual(sums.Sum.__module__, "budwright.sums")
-        for name, signature in SUM_METHODS.items():
-            with self.subTest(name):
-                self.assertIn(name, vars(sums.Sum))
-                self.assertEqual(str(inspect.signature(vars(sums.Sum)[name])), signature)
+    def test_methods_stand_in_the_class_itself(self):
+        self.check_methods(sums, "Sum", SUM_METHODS)
+        self.check_methods(webs, "Web", WEB_METHODS)
+        self.check_methods(maps, "WebMap", MAP_METHODS)
 
     def test_bounds(self):
         self.assertEqual(sums.WIDE, 400)
         self.assertEqual((tables.MOST_TIE, tables.MOST_BUDS, tables.MOST_ROOTS), (50, 4, 4))
+        self.assertEqual((webs.MOST_TERMS, webs.MOST_WALK), (100, 60))
 
 
 if __name__ == "__main__":

@@ -220,6 +220,11 @@ class LanguageTest(unittest.TestCase):
             with here:
                 if node.name in ("__eq__", "__len__", "__str__", "__repr__"):
                     self.assertEqual([type(row) for row in node.body if not is_docstring(row)], [ast.Return])
+                    told = ast.unparse(node.body[-1].value)
+                    if node.name == "__len__":
+                        self.assertRegex(told, r"^len\(")
+                    if node.name in ("__str__", "__repr__"):
+                        self.assertRegex(told, r"^(f['\"]|str\(|repr\(|'[^']*'\.join\()")
 
 
 if __name__ == "__main__":

@@ -8,72 +8,13 @@ import unittest
 from budwright.errors import BadOrder, BadTable, BadText, Full, Great, NoPlace, Uneven
 from budwright.tables import (barred, beside, opposite, principal, read_table, reordered, table_text, turned,
                               weights)
-
-ONE = ((0,),)
-TWO = ((0, 1), (-1, 0))
-TALL = ((0, 2), (-1, 0), (1, 0), (-3, 50))
-RING = ((0, 1, -1), (-1, 0, 1), (1, -1, 0))
-FOUR = ((0, 1, 0, -1), (-1, 0, 1, 0), (0, -1, 0, 1), (1, 0, -1, 0))
-EVEN = (ONE, TWO, TALL, RING, FOUR, ((0, 0), (0, 0)), ((0, 50), (-50, 0)), ((0,),) + ((-50,),) * 4, FOUR + FOUR)
-UNEVEN = (
-    ((1,),), ((-1,),), ((0, 1), (1, 0)), ((0, -1), (-1, 0)), ((0, 1), (0, 0)), ((0, 0), (-2, 0)), ((0, 1), (-1, 3)),
-    ((0, 1, -2), (-1, 0, 1), (1, -1, 0)),
-    ((0, 2, 0, -1), (-1, 0, 1, 0), (0, -1, 0, 1), (1, 0, -1, 0)),
-    ((0, 1), (1, 0), (5, 5)),
-)
-NO_TABLES = (
-    (), [], None, 0, "0", "0,1;-1,0", {}, ((),), ((), ()), (0,), (0, 0), ([0],), [(0,)], [[0]], ((0, 1), [-1, 0]),
-    ([0, 1], (-1, 0)), ((0, 1),), ((0, 1), (-1,)), ((0,), (1, 2)), ((0, 1), (-1, 0, 0)), ((0, 1), (-1, 0), ()),
-    ((0, True), (-1, 0)), ((False,),), ((0,), (True,)), ((0,), ("1",)), ((0,), (None,)), ((0,), (1.0,)),
-    ((0, 51), (-51, 0)), ((0, 1), (-51, 0)), ((0,), (51,)), ((0,), (-51,)), ((0,),) * 6, TWO + ((0, 0),) * 5,
-    FOUR + ((0, 0, 0, 0),) * 5, FOUR[:3], tuple([(0,) * 5] * 5), ((0,), (0,), 3), ({0},), ((0, (1,)), (-1, 0)),
-)
-
-
-def is_barring(table, ring):
-    many = len(table[0])
-    if not isinstance(ring, tuple) or not all(type(bud) is int and 0 <= bud < many for bud in ring):
-        return False
-    if len(ring) == 2:
-        i, j = ring
-        ties = (table[i][j], table[j][i])
-        return i <= j and ties != (0, 0) and not (min(ties) < 0 < max(ties))
-    if len(ring) not in (3, 4) or len(set(ring)) != len(ring):
-        return False
-    pairs = list(zip(ring, ring[1:] + ring[:1]))
-    there, back = math.prod(table[i][j] for i, j in pairs), math.prod(table[j][i] for i, j in pairs)
-    return abs(there) != abs(back)
+from samples import EVEN, FOUR, NO_TABLES, ONE, RING, TALL, TWO, UNEVEN, is_barring, slow_turned, some_even_table
 
 
 def any_barring(table):
     many = range(len(table[0]))
     rings = [ring for length in (2, 3, 4) for ring in itertools.product(many, repeat=length)]
     return any(is_barring(table, ring) for ring in rings)
-
-
-def some_even_table(source, many, roots, span=3):
-    """A table made of weights, so that it is even whatever comes."""
-    weight = [source.randint(1, 4) for _ in range(many)]
-    rows = [[0] * many for _ in range(many + roots)]
-    for i, j in itertools.combinations(range(many), 2):
-        goes = source.randint(-span, span)
-        shared = math.gcd(weight[i], weight[j])
-        rows[i][j], rows[j][i] = goes * weight[j] // shared, -goes * weight[i] // shared
-    for i in range(many, many + roots):
-        rows[i] = [source.randint(-span, span) for _ in range(many)]
-    return tuple(map(tuple, rows))
-
-
-def slow_turned(table, k):
-    def sign(number):
-        return (number > 0) - (number < 0)
-
-    def tie(i, j):
-        if k in (i, j):
-            return -table[i][j]
-        return table[i][j] + sign(table[i][k]) * max(0, table[i][k] * table[k][j])
-
-    return tuple(tuple(tie(i, j) for j in range(len(table[0]))) for i in range(len(table)))
 
 
 ALL = (
