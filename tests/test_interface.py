@@ -3,7 +3,7 @@
 import inspect
 import unittest
 
-from budwright import kinds, maps, sums, tables, walks, webs
+from budwright import errors, garden, kinds, maps, pagelines, pages, polygons, sums, tables, walks, webs
 
 SUMS = {"letter": "(width, number, *, by=1)", "constant": "(width, many)", "read_sum": "(text, *, width)"}
 SUM_METHODS = {
@@ -36,6 +36,25 @@ MAP_METHODS = {
     "__init__": "(self, table)", "rows": "(self)", "buds": "(self)", "number_of": "(self, leans)",
     "way": "(self, one, other)", "walk_to": "(self, number)", "__len__": "(self)", "__repr__": "(self)",
 }
+POLYGONS = {
+    "cuts": "(corners)", "is_cut": "(corners, chords)", "cut_table": "(corners, chords)",
+    "flipped": "(corners, chords, chord)", "flip": "(corners, chords, chord)", "lengths": "(corners, chords, parts)",
+}
+GARDEN_METHODS = {
+    "__init__": "(self, *, limit=8)", "sow": "(self, name, table)", "grow": "(self, name, place)",
+    "walk": "(self, name, places)", "hold": "(self, name, place)", "release": "(self, name, place)",
+    "reorder": "(self, name, order)", "graft": "(self, name, one, other)", "uproot": "(self, name)",
+    "do": "(self, deed)", "undo": "(self)", "redo": "(self)", "done": "(self)", "ask": "(self, name, question)",
+    "unask": "(self, name)", "asks": "(self)", "news": "(self)", "web": "(self, name)", "names": "(self)",
+    "twin": "(self)", "__len__": "(self)", "__eq__": "(self, other)", "__repr__": "(self)", "__str__": "(self)",
+}
+PAGELINES = {"deed_text": "(deed)"}
+PAGES = {"read_deed": "(text)", "page": "(garden)", "read_page": "(text)"}
+ERRORS = (
+    "BudError", "BadSum", "BadTable", "Uneven", "Great", "Held", "NotHeld", "BadOrder", "BadCut", "Mixed", "Endless",
+    "BadName", "Taken", "Full", "BadAsk", "BadDeed", "BadText", "NoPart", "NoPlace", "Lacking", "NoWeb", "NoAsk",
+    "NothingLeft",
+)
 
 
 class InterfaceTest(unittest.TestCase):
@@ -60,16 +79,25 @@ class InterfaceTest(unittest.TestCase):
         self.check_functions(walks, WALKS)
         self.check_functions(kinds, KINDS)
         self.check_functions(maps, MAPS)
+        self.check_functions(polygons, POLYGONS)
+        self.check_functions(pagelines, PAGELINES)
+        self.check_functions(pages, PAGES)
 
     def test_methods_stand_in_the_class_itself(self):
         self.check_methods(sums, "Sum", SUM_METHODS)
         self.check_methods(webs, "Web", WEB_METHODS)
         self.check_methods(maps, "WebMap", MAP_METHODS)
+        self.check_methods(garden, "Garden", GARDEN_METHODS)
+
+    def test_refusals(self):
+        for name in ERRORS:
+            self.assertEqual(getattr(errors, name).__module__, "budwright.errors")
 
     def test_bounds(self):
         self.assertEqual(sums.WIDE, 400)
         self.assertEqual((tables.MOST_TIE, tables.MOST_BUDS, tables.MOST_ROOTS), (50, 4, 4))
         self.assertEqual((webs.MOST_TERMS, webs.MOST_WALK), (100, 60))
+        self.assertEqual((garden.MOST_WEBS, garden.MOST_ASKS), (8, 6))
 
 
 if __name__ == "__main__":
