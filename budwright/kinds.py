@@ -26,27 +26,6 @@ def endless_pair(rows):
     return None
 
 
-def explored(rows):
-    """A dict from tables that turnings bring to walks there, and the one among them that shows endlessness, or None.
-
-    Up to that one no ties multiplied are beyond -3: so they are few, and no turning comes near to MOST_TIE.
-    """
-    walks = {rows: ()}
-    waiting = [rows]
-    at = 0
-    while at < len(waiting):
-        now = waiting[at]
-        if endless_pair(now) is not None:
-            return walks, now
-        for place in range(len(now)):
-            after = turned_table(now, place)
-            if after not in walks:
-                walks[after] = walks[now] + (place,)
-                waiting.append(after)
-        at += 1
-    return walks, None
-
-
 def lot_of(rows, first):
     """The list of buds that hang together with the first one, rising."""
     found = [first]
@@ -63,42 +42,69 @@ def lots(rows):
     return [lot for bud, lot in enumerate(found) if lot[0] == bud]
 
 
-def family(rows, pairs):
-    """The letter, without its number, that is told by the tied pairs of a lot, one fewer than its buds."""
+def family(tied, reach):
+    """The letter, without its number, that tied pairs one fewer than their buds tell, or None where buds don't end.
+
+    Tied is, for each pair, its ties multiplied; reach is in how many pairs each of its two buds is.
+    """
+    starred = any([3 in both for both in reach])
+    if tied.count(-1) == len(tied):
+        return "D" if starred else "A"
+    if tied == [-3]:
+        return "G"
+    if starred or tied.count(-2) != 1 or tied.count(-1) != len(tied) - 1:
+        return None
+    return "F" if reach[tied.index(-2)] == (2, 2) else "B"
+
+
+def lot_letter(rows, lot):
+    """The letter of a lot, or None where these rows don't tell it."""
+    pairs = tied_pairs(rows, lot)
+    if len(pairs) != len(lot) - 1:
+        return None
     ends = [bud for pair in pairs for bud in pair]
-    for i, j in pairs:
-        tied = rows[i][j] * rows[j][i]
-        if tied == -3:
-            return "G"
-        if tied == -2:
-            return "F" if ends.count(i) > 1 and ends.count(j) > 1 else "B"
-    return "D" if any([ends.count(bud) == 3 for bud in ends]) else "A"
+    told = family([rows[i][j] * rows[j][i] for i, j in pairs], [(ends.count(i), ends.count(j)) for i, j in pairs])
+    return None if told is None else f"{told}{len(lot)}"
 
 
-def lot_letter(tables, lot):
-    """The letter of a lot, by the first of the tables in which its tied pairs are one fewer than its buds."""
-    for rows in tables:
-        pairs = tied_pairs(rows, lot)
-        if len(pairs) == len(lot) - 1:
-            return f"{family(rows, pairs)}{len(lot)}"
-    return None
+def finite_told(letters):
+    """What is told of a table of a finite kind with these letters."""
+    buds = 0
+    webs = 1
+    for name in letters:
+        buds += COUNTS[name][0]
+        webs *= COUNTS[name][1]
+    return ("finite", tuple(sorted(letters)), buds, webs)
+
+
+def add_turned(walks, waiting, now):
+    """Adds the tables that turnings of one bring, where they are new, to those that wait, and walks to them."""
+    for place in range(len(now)):
+        after = turned_table(now, place)
+        if after not in walks:
+            walks[after] = walks[now] + (place,)
+            waiting.append(after)
 
 
 def kind(table):
     """("finite", letters, buds, webs) or ("endless", walk, one, other)."""
     check_table(table)
     rows = table[:bud_count(table)]
-    walks, shown = explored(rows)
-    if shown is not None:
-        one, other = endless_pair(shown)
-        return ("endless", walks[shown], one, other)
-    letters = sorted([lot_letter(walks, lot) for lot in lots(rows)])
-    buds = 0
-    webs = 1
-    for name in letters:
-        buds += COUNTS[name][0]
-        webs *= COUNTS[name][1]
-    return ("finite", tuple(letters), buds, webs)
+    parted = lots(rows)
+    walks = {rows: ()}
+    waiting = [rows]
+    at = 0
+    # Some table always tells. Up to it no ties multiplied are beyond -3: so tables are few, and none nears MOST_TIE.
+    while True:
+        now = waiting[at]
+        pair = endless_pair(now)
+        if pair is not None:
+            return ("endless", walks[now], pair[0], pair[1])
+        letters = [lot_letter(now, lot) for lot in parted]
+        if None not in letters:
+            return finite_told(letters)
+        add_turned(walks, waiting, now)
+        at += 1
 
 
 def is_bud(rows, number):

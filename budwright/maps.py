@@ -3,34 +3,52 @@
 from budwright.errors import Endless, NoPlace
 from budwright.figures import is_number
 from budwright.kinds import kind
-from budwright.seeds import first_seed, turned_seed
-from budwright.tables import bud_count, reordered
+from budwright.seeds import first_seed, fresh_lean, turned_seed
+from budwright.tables import bud_count
+
+
+def is_number_below(number, many):
+    return is_number(number) and 0 <= number < many
 
 
 def fallen_seed(seed):
     """The seed with its buds in the order of falling leans."""
     ties, hues, leans = seed
-    order = tuple(sorted(range(len(leans)), key=lambda bud: leans[bud], reverse=True))
-    return (reordered(ties, order), tuple([hues[bud] for bud in order]), tuple([leans[bud] for bud in order]))
+    order = sorted(range(len(leans)), key=lambda bud: leans[bud], reverse=True)
+    rows = tuple([tuple([ties[bud][other] for other in order]) for bud in order])
+    return (rows, tuple([hues[bud] for bud in order]), tuple([leans[bud] for bud in order]))
+
+
+def draw_exchange(seeds, numbers, ends, at, place):
+    """Puts down where an exchange in the row of a number leads to, and the way back, and a new row where there is none.
+
+    The numbers are those of rows by their leans: leans tell a web, so hues and ties are turned for new rows alone.
+    """
+    ties, hues, leans = seeds[at]
+    fresh = fresh_lean(ties, hues, leans, place)
+    behind = tuple(sorted(leans[:place] + (fresh,) + leans[place + 1:], reverse=True))
+    if behind not in numbers:
+        numbers[behind] = len(seeds)
+        seeds.append(fallen_seed(turned_seed(seeds[at], place)))
+        ends.append([None] * len(leans))
+    ends[at][place] = numbers[behind]
+    # Two exchanges at one place bring back what was.
+    ends[numbers[behind]][behind.index(fresh)] = at
 
 
 def drawn_rows(table):
     """The tuple of all rows of the map of a table of a finite kind."""
     many = bud_count(table)
-    seeds = [fallen_seed(first_seed(table[:many]))]
+    seeds = [first_seed(table[:many])]
     numbers = {seeds[0][2]: 0}
-    rows = []
-    while len(rows) < len(seeds):
-        ties, hues, leans = seeds[len(rows)]
-        ends = []
+    ends = [[None] * many]
+    at = 0
+    while at < len(seeds):
         for place in range(many):
-            after = fallen_seed(turned_seed((ties, hues, leans), place))
-            if after[2] not in numbers:
-                numbers[after[2]] = len(seeds)
-                seeds.append(after)
-            ends.append(numbers[after[2]])
-        rows.append((leans, hues, ties, tuple(ends)))
-    return tuple(rows)
+            if ends[at][place] is None:
+                draw_exchange(seeds, numbers, ends, at, place)
+        at += 1
+    return tuple([(leans, hues, ties, tuple(led)) for (ties, hues, leans), led in zip(seeds, ends)])
 
 
 def distances(rows, number):
@@ -75,7 +93,7 @@ class WebMap:
         return None
 
     def check_row(self, number):
-        if not is_number(number) or not 0 <= number < len(self.drawn):
+        if not is_number_below(number, len(self.drawn)):
             raise NoPlace(number)
 
     def way(self, one, other):
@@ -117,13 +135,17 @@ class WebMap:
 
 def map_holds(table, rows):
     """Whether the rows are the map of the table but for their order behind the first one."""
-    if kind(table)[0] == "endless":
+    told = kind(table)
+    if told[0] == "endless" or len(rows) != told[3]:
         return False
-    drawn = drawn_rows(table)
-    told = [row[0] for row in rows]
-    if len(drawn) != len(told) or not all([row[0] in told for row in drawn]):
-        return False
-    spots = [told.index(row[0]) for row in drawn]
-    if spots[0] != 0:
-        return False
-    return all([rows[spot] == row[:3] + (tuple([spots[end] for end in row[3]]),) for spot, row in zip(spots, drawn)])
+    # Where each drawn row stands among the rows is told by those that lead to it, of which one comes ahead of it.
+    spots = {0: 0}
+    for number, (leans, hues, ties, ends) in enumerate(drawn_rows(table)):
+        row = rows[spots[number]]
+        if len(row) != 4 or not all([is_number_below(led, len(rows)) for led in row[3]]):
+            return False
+        for end, led in zip(ends, row[3]):
+            spots.setdefault(end, led)
+        if row != (leans, hues, ties, tuple([spots.get(end) for end in ends])):
+            return False
+    return True

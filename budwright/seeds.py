@@ -11,7 +11,7 @@ def first_seed(table):
 
 def sign_of(hue):
     """1 for a hue above 0, or else -1: a hue is never all noughts and never on both sides."""
-    return 1 if any([number > 0 for number in hue]) else -1
+    return 1 if max(hue) > 0 else -1
 
 
 def minus(row):
@@ -20,8 +20,9 @@ def minus(row):
 
 def added_often(row, more, often):
     """The row with another one added as often as told, never where that is below 0."""
-    times = max(0, often)
-    return tuple([a + times * b for a, b in zip(row, more)])
+    if often <= 0:
+        return row
+    return tuple([a + often * b for a, b in zip(row, more)])
 
 
 def turned_hues(ties, hues, place):
@@ -32,13 +33,18 @@ def turned_hues(ties, hues, place):
     return tuple(rows)
 
 
-def turned_leans(ties, hues, leans, place):
+def fresh_lean(ties, hues, leans, place):
+    """The lean of the bud that an exchange puts in this place."""
     sign = sign_of(hues[place])
     fresh = minus(leans[place])
     # A bud's tie to itself is 0, so its own lean isn't added; the rows of roots have no lean beside them.
     for lean, row in zip(leans, ties):
         fresh = added_often(fresh, lean, -sign * row[place])
-    return leans[:place] + (fresh,) + leans[place + 1:]
+    return fresh
+
+
+def turned_leans(ties, hues, leans, place):
+    return leans[:place] + (fresh_lean(ties, hues, leans, place),) + leans[place + 1:]
 
 
 def turned_seed(seed, place):

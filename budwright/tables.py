@@ -119,26 +119,27 @@ def weights(table):
     return tuple([found[bud] for bud in range(bud_count(table))])
 
 
-def turned_tie(table, place, i, j):
-    tie = table[i][j]
-    if place in (i, j):
-        return -tie
-    one = table[i][place]
-    other = table[place][j]
-    if one > 0 and other > 0:
-        return tie + one * other
-    if one < 0 and other < 0:
-        return tie - one * other
-    return tie
+def turned_row(row, up, down, place):
+    """The row of a place, other than the bud at which the table turns, by how often its tie to that bud is added."""
+    tie = row[place]
+    if tie == 0:
+        return row
+    return tuple([old + tie * often for old, often in zip(row, up if tie > 0 else down)])
 
 
 def turned_table(table, place):
     """The table, which is even, turned at one of its buds."""
-    many = bud_count(table)
-    rows = tuple([tuple([turned_tie(table, place, i, j) for j in range(many)]) for i in range(len(table))])
-    if any([abs(tie) > MOST_TIE for row in rows for tie in row]):
+    own = table[place]
+    up = [max(0, tie) for tie in own]
+    down = [max(0, -tie) for tie in own]
+    # The tie to the bud itself becomes minus itself: it is taken off twice.
+    up[place] = -2
+    down[place] = -2
+    rows = [turned_row(row, up, down, place) for row in table]
+    rows[place] = tuple([-tie for tie in own])
+    if any([max(row) > MOST_TIE or min(row) < -MOST_TIE for row in rows]):
         raise Great()
-    return rows
+    return tuple(rows)
 
 
 def turned(table, place):

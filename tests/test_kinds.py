@@ -5,7 +5,7 @@ import random
 import unittest
 
 from budwright.kinds import endless_holds, kind
-from budwright.tables import beside, opposite, reordered, turned
+from budwright.tables import barred, beside, opposite, reordered, turned
 from samples import (COUNTED, ENDLESS, FOUR, LETTERED, NO_NUMBERS, ONE, TWO, greatest_tie, slow_turned,
                      some_even_table, tree, with_roots)
 
@@ -23,6 +23,20 @@ def slow_shown(table, walk, one, other):
     for place in walk:
         rows = slow_turned(rows, place)
     return rows[one][other] * rows[other][one] <= -4
+
+
+def slow_is_endless(table):
+    """Whether some table that turnings bring has two buds whose ties multiplied are -4 or beyond."""
+    seen, waiting = {table}, [table]
+    while waiting:
+        rows = waiting.pop(0)
+        if any(rows[i][j] * rows[j][i] <= -4 for i, j in itertools.combinations(range(len(rows)), 2)):
+            return True
+        for other in [slow_turned(rows, bud) for bud in range(len(rows))]:
+            if other not in seen:
+                seen.add(other)
+                waiting.append(other)
+    return False
 
 
 class FiniteTest(unittest.TestCase):
@@ -117,6 +131,33 @@ class EndlessTest(unittest.TestCase):
                     self.assertFalse(endless_holds(rows, (), i, j))
             self.assertEqual(kind(rows), told)
         self.assertGreater(min(counts), 50)
+
+    def check_kind(self, table):
+        """Whether the table's kind is as all turnings tell; tells its letters, or None."""
+        told = kind(table)
+        self.assertEqual(told[0] == "endless", slow_is_endless(table), table)
+        if told[0] == "endless":
+            self.check_shown(table)
+            return None
+        return told[1]
+
+    def test_all_trees(self):
+        ties = ((1, -1), (1, -2), (2, -1), (1, -3), (3, -1))
+        shapes = (((0, 1),), ((0, 1), (1, 2)), ((0, 1), (1, 2), (2, 3)), ((0, 1), (0, 2), (0, 3)))
+        found = []
+        for shape in shapes:
+            for choice in itertools.product(ties, repeat=len(shape)):
+                pairs = [pair + tie for pair, tie in zip(shape, choice)]
+                found.append(self.check_kind(tree(len(shape) + 1, *pairs)))
+        counts = {letters[0]: found.count(letters) for letters in found if letters is not None}
+        self.assertEqual(counts, {"A2": 1, "B2": 2, "G2": 2, "A3": 1, "B3": 4, "A4": 1, "B4": 4, "F4": 2, "D4": 1})
+
+    def test_rings_of_three(self):
+        ties = ((0, 0), (1, -1), (-1, 1), (1, -2), (2, -1), (-1, 2), (-2, 1), (1, -3), (-3, 1), (2, -2), (-2, 2))
+        for one, two, three in itertools.product(ties, repeat=3):
+            table = tree(3, (0, 1) + one, (1, 2) + two, (2, 0) + three)
+            if barred(table) is None:
+                self.check_kind(table)
 
     def test_sharp_ties(self):
         for there, back in itertools.product(range(1, 6), repeat=2):

@@ -288,7 +288,8 @@ class MapHoldsTest(unittest.TestCase):
             for row in ((leans[::-1], hues[::-1], tuple(line[::-1] for line in ties[::-1]), ends[::-1]),
                         (leans, hues, ties, ends[::-1]), (leans, hues[1:] + hues[:1], ties, ends),
                         (leans, hues, ties, ends[:2]), (leans, hues, ties, ends + (0,)), (leans[:2], hues, ties, ends),
-                        ((), (), (), ()), (leans, hues, ties, ()), (hues, leans, ties, ends)):
+                        ((), (), (), ()), (leans, hues, ties, ()), (hues, leans, ties, ends), (leans, hues, ties),
+                        (leans, hues, ties, ends, ends), (leans, hues, ties, list(ends)), [leans, hues, ties, ends]):
                 if row != rows[number]:
                     self.check_bent(RING, rows, number, row)
 
@@ -298,6 +299,17 @@ class MapHoldsTest(unittest.TestCase):
             for bent in ([], rows[:1], rows[:-1], rows[1:], rows + rows[-1:], rows + rows[:1], rows * 2,
                          rows[:-1] + rows[:1], rows[:1] + rows[:-1]):
                 self.assertIs(map_holds(table, bent), False)
+
+    def test_ends_of_two_rows_changed_about(self):
+        for table in (TWO, RING, LETTERED["B3"][0]):
+            rows = WebMap(table).rows()
+            for one, other in itertools.combinations(range(len(rows)), 2):
+                bent = list(rows)
+                bent[one] = rows[one][:3] + rows[other][3:]
+                bent[other] = rows[other][:3] + rows[one][3:]
+                self.assertIs(map_holds(table, bent), False)
+                # The same web twice, and another one nowhere.
+                self.assertIs(map_holds(table, rows[:other] + [rows[one]] + rows[other + 1:]), False)
 
     def test_of_other_tables(self):
         tables = [table for table in FINITE + SEVERAL if kind(table)[3] <= 20]

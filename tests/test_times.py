@@ -55,5 +55,18 @@ class TimesTest(unittest.TestCase):
             inner(((0, 7), (-7, 0)), [0, 1] * 30)
 
 
+class ManyMapsTest(unittest.TestCase):
+    """How long many maps take is told, not judged."""
+
+    def test_two_hundred_maps(self):
+        table = ((0, 1, 0, 0), (-1, 0, 2, 0), (0, -1, 0, 1), (0, 0, -1, 0))
+        begun = time.perf_counter()
+        for _ in range(200):
+            rows = WebMap(table).rows()
+            self.assertEqual(len(rows), 105)
+            self.assertIs(map_holds(table, rows), True)
+        print(f"200 maps of F4 made and held against their rows: {time.perf_counter() - begun:.2f} seconds")
+
+
 if __name__ == "__main__":
     unittest.main()
